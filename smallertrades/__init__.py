@@ -1,0 +1,1 @@
+"""Trades made smaller by as much as can be, with nobody's net changed."""
