@@ -4,6 +4,7 @@ Each call is a function of the house and the list of its arguments, and answers 
 """
 
 MOST = 1000000000
+FARTHEST_POTENTIAL = 1000000
 
 OUT_OF_RANGE = -1
 KEY_TAKEN = -2
@@ -21,6 +22,12 @@ def within(number, low, high):
 def numbers_for_trades(house, numbers):
     """Answer whether the list can be numbers for the trades."""
     return len(numbers) == len(house.order()) and all([within(number, 0, MOST) for number in numbers])
+
+
+def potentials_for_members(house, numbers):
+    """Answer whether the list can be potentials."""
+    fitting = [within(number, -FARTHEST_POTENTIAL, FARTHEST_POTENTIAL) for number in numbers]
+    return len(numbers) == len(house.members()) and all(fitting)
 
 
 def answer_trade(house, arguments):
@@ -121,6 +128,89 @@ def answer_isone(house, arguments):
     return [1 if house.allows(numbers) else 0, sum(numbers)]
 
 
+def answer_bound(house, arguments):
+    """Answer the potentials' bound."""
+    potentials = arguments[0]
+    if not potentials_for_members(house, potentials):
+        return [OUT_OF_RANGE]
+    return [house.bound(potentials)]
+
+
+def answer_potentials(house, arguments):
+    """Answer each member's key and its potential of those that are told."""
+    members = house.members()
+    potentials = house.potentials()
+    told = [len(members)]
+    for member in members:
+        told.append(member)
+        told.append(potentials[member])
+    return told
+
+
+def answer_proves(house, arguments):
+    """Answer whether the potentials prove that the numbers are a reduction of the greatest total."""
+    potentials, numbers = arguments
+    if not potentials_for_members(house, potentials) or not numbers_for_trades(house, numbers):
+        return [OUT_OF_RANGE]
+    return [1 if house.allows(numbers) and sum(numbers) == house.bound(potentials) else 0]
+
+
+def answer_without(house, arguments):
+    """Answer the greatest total without the trade, and that with its least 0."""
+    key = arguments[0]
+    if not within(key, 1, MOST):
+        return [OUT_OF_RANGE]
+    if not house.has(key):
+        return [NOT_THERE]
+    # A trade that has no room takes no more part in reductions than one that isn't there.
+    return [house.greatest_with(key, 0), house.greatest_with(key, house.entry(key).amount)]
+
+
+def answer_pairs(house, arguments):
+    """Answer what could be taken away between each two members alone, all together."""
+    members = house.members()
+    cancelled = 0
+    for place, one in enumerate(members):
+        cancelled += sum([house.cancelled_between(one, other) for other in members[place + 1:]])
+    return [cancelled]
+
+
+def answer_worth(house, arguments):
+    """Answer what the trade is worth by the potentials that are told."""
+    key = arguments[0]
+    if not within(key, 1, MOST):
+        return [OUT_OF_RANGE]
+    if not house.has(key):
+        return [NOT_THERE]
+    return [house.worth(key)]
+
+
+def answer_members(house, arguments):
+    """Answer the members' keys."""
+    members = house.members()
+    return [len(members)] + members
+
+
+def answer_trades(house, arguments):
+    """Answer each trade's key, members, amount and least."""
+    told = [len(house.order())]
+    for key in house.order():
+        trade = house.entry(key)
+        told.extend([key, trade.giver, trade.to, trade.amount, trade.least])
+    return told
+
+
+def answer_between(house, arguments):
+    """Answer the amounts from the one member to the other, and what could be taken away between them alone."""
+    one, other = arguments
+    if not within(one, 1, MOST) or not within(other, 1, MOST):
+        return [OUT_OF_RANGE]
+    if one == other:
+        return [UNFIT]
+    amounts = [trade.amount for trade in house.listed() if trade.giver == one and trade.to == other]
+    return [sum(amounts), house.cancelled_between(one, other)]
+
+
 # By the calls' numbers: the function, how many whole numbers it has, how many lists behind them.
 CALLS = (
     (answer_trade, 5, 0),
@@ -133,6 +223,15 @@ CALLS = (
     (answer_greatest, 0, 0),
     (answer_told, 0, 0),
     (answer_isone, 0, 1),
+    (answer_bound, 0, 1),
+    (answer_potentials, 0, 0),
+    (answer_proves, 0, 2),
+    (answer_without, 1, 0),
+    (answer_pairs, 0, 0),
+    (answer_worth, 1, 0),
+    (answer_members, 0, 0),
+    (answer_trades, 0, 0),
+    (answer_between, 2, 0),
 )
 
 

@@ -1,6 +1,7 @@
 """The house: its trades, and what is kept about them."""
 
-from smallertrades.reductions import is_reduction, told_reduction
+from smallertrades.potentials import bound_of, least_potentials, members_of, worth_of
+from smallertrades.reductions import greatest_reduction, is_reduction, told_reduction
 
 MOST_TRADES = 40
 MOST_MEMBERS = 12
@@ -44,12 +45,13 @@ class House:
         """Answer the trades by their keys rising."""
         return [self.book[key] for key in self.order()]
 
+    def members(self):
+        """Answer the members' keys, rising."""
+        return members_of(self.rooms())
+
     def takes_in(self, giver, to):
         """Answer whether one more trade between these two members has a place."""
-        named = [giver, to]
-        for trade in self.listed():
-            named.append(trade.giver)
-            named.append(trade.to)
+        named = self.members() + [giver, to]
         return len(self.book) < MOST_TRADES and len(set(named)) <= MOST_MEMBERS
 
     def enter(self, key, giver, to, amount, least):
@@ -93,3 +95,31 @@ class House:
     def allows(self, numbers):
         """Answer whether the numbers for the trades are a reduction."""
         return is_reduction(self.rooms(), numbers)
+
+    def greatest_with(self, key, room):
+        """Answer the greatest total if the trade had that room."""
+        trades = []
+        for other, trade in zip(self.order(), self.rooms()):
+            trades.append((trade[0], trade[1], room if other == key else trade[2]))
+        return sum(greatest_reduction(trades))
+
+    def potentials(self):
+        """Answer the potentials that are told, by the members."""
+        return least_potentials(self.rooms(), self.reduction())
+
+    def bound(self, potentials):
+        """Answer the bound of potentials that stand by their members' keys rising."""
+        return bound_of(self.rooms(), dict(zip(self.members(), potentials)))
+
+    def worth(self, key):
+        """Answer what the trade is worth by the potentials that are told."""
+        trade = self.book[key]
+        return worth_of(trade.giver, trade.to, self.potentials())
+
+    def room_between(self, giver, to):
+        """Answer the sum of the rooms of the trades from the one member to the other."""
+        return sum([trade.room() for trade in self.listed() if trade.giver == giver and trade.to == to])
+
+    def cancelled_between(self, one, other):
+        """Answer what could be taken away between these two members alone."""
+        return 2 * min(self.room_between(one, other), self.room_between(other, one))

@@ -1,21 +1,23 @@
 """Reductions: what is one, and which one of the greatest total is told.
 
 Trades stand here by their keys rising, each a tuple (giver, to, room), and a list of numbers beside them.
-A move is a tuple (start, end, length, place, change): it changes the number of the trade at its place by 1 or
--1 for each unit, and passes what the member start has too much on to the member end.
 """
 
-# A way's length is LOSS for each unit of the total that it costs, and 1 for each of its moves. A way has fewer
-# moves than LOSS, so the total counts first. Among equals the fewest moves come first: by that alone the ways
-# stay few however large the rooms are.
-LOSS = 64
+from smallertrades.potentials import least_potentials, worth_of
+from smallertrades.ways import leeway, moves_of, shift, shortest_ways, way_to
 
 
 def told_reduction(trades):
     """Answer the numbers of the reduction that's told."""
+    numbers = greatest_reduction(trades)
+    prefer_low_keys(trades, numbers)
+    return numbers
+
+
+def greatest_reduction(trades):
+    """Answer the numbers of some reduction of the greatest total."""
     numbers = [room for giver, to, room in trades]
     even_out(trades, numbers)
-    prefer_low_keys(trades, numbers)
     return numbers
 
 
@@ -68,7 +70,7 @@ def prefer_low_keys(trades, numbers):
     potentials = least_potentials(trades, numbers)
     free = []
     for place, trade in enumerate(trades):
-        if 1 + potentials[trade[0]] - potentials[trade[1]] == 0:
+        if worth_of(trade[0], trade[1], potentials) == 0:
             free.append(place)
     for place in free:
         raise_number(trades, numbers, place, [other for other in free if other > place])
@@ -85,77 +87,3 @@ def raise_number(trades, numbers, place, places):
         size = min(room - numbers[place], leeway(trades, numbers, way))
         shift(numbers, way, size)
         numbers[place] += size
-
-
-def least_potentials(trades, numbers):
-    """Answer, for each member, its potential of those that are told; numbers: any reduction of the greatest total."""
-    over = overhangs(trades, numbers)
-    lengths, last_moves = shortest_ways(moves_of(trades, numbers, list(range(len(trades)))), list(over))
-    potentials = {}
-    for member in lengths:
-        # Rounded down, a length loses its moves, and what the way costs the total is left.
-        potentials[member] = -(lengths[member] // LOSS)
-    return potentials
-
-
-def moves_of(trades, numbers, places):
-    """Answer the moves that the trades at these places have left."""
-    moves = []
-    for place in places:
-        giver, to, room = trades[place]
-        if numbers[place] < room:
-            moves.append((giver, to, 1 - LOSS, place, 1))
-        if numbers[place] > 0:
-            moves.append((to, giver, 1 + LOSS, place, -1))
-    return moves
-
-
-def shortest_ways(moves, starts):
-    """Answer two dicts: for each member that's reached from a start how long the shortest way is, and its last move.
-
-    No round of moves gains anything, neither while numbers are evened out nor behind it; so this comes to an end.
-    """
-    lengths = {}
-    last_moves = {}
-    for start in starts:
-        lengths[start] = 0
-    changed = True
-    while changed:
-        changed = False
-        for move in moves:
-            if move[0] not in lengths:
-                continue
-            length = lengths[move[0]] + move[2]
-            if move[1] not in lengths or length < lengths[move[1]]:
-                lengths[move[1]] = length
-                last_moves[move[1]] = move
-                changed = True
-    return lengths, last_moves
-
-
-def way_to(member, last_moves):
-    """Answer the moves of the shortest way to the member, the first one first."""
-    way = []
-    while member in last_moves:
-        move = last_moves[member]
-        way.append(move)
-        member = move[0]
-    way.reverse()
-    return way
-
-
-def leeway(trades, numbers, way):
-    """Answer by how much all moves of the way can be done at the most."""
-    sizes = []
-    for start, end, length, place, change in way:
-        if change > 0:
-            sizes.append(trades[place][2] - numbers[place])
-        else:
-            sizes.append(numbers[place])
-    return min(sizes)
-
-
-def shift(numbers, way, size):
-    """Do all moves of the way by that size."""
-    for start, end, length, place, change in way:
-        numbers[place] += change * size

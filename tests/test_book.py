@@ -2,8 +2,7 @@
 
 import unittest
 
-from tests.helper import (BILLION, FARTHEST, ask, drop, entered, floor, greatest, gross, last, net, probe, told,
-                          trade)
+from tests.helper import (BILLION, FARTHEST, Refusals, ask, drop, floor, greatest, gross, last, net, told, trade)
 
 RING = [trade(10, 1, 2, 5, 1), trade(20, 2, 3, 7, 0), trade(30, 3, 1, 6, 6)]
 OUTSIDE = [0, -1, BILLION + 1, FARTHEST, -FARTHEST]
@@ -12,15 +11,6 @@ OUTSIDE = [0, -1, BILLION + 1, FARTHEST, -FARTHEST]
 def forty():
     """40 trades among 12 members."""
     return [trade(key, key % 12 + 1, (key + 1) % 12 + 1, key, 0) for key in range(1, 41)]
-
-
-class Refusals(unittest.TestCase):
-    def refused(self, before, call, refusal):
-        """The call is refused, and the house is as it would be without it."""
-        seen = probe(entered(before + [call]))
-        told_apart = ask(before + [call] + seen)
-        self.assertEqual(told_apart[len(before)], [refusal], call)
-        self.assertEqual(told_apart[:len(before)] + told_apart[len(before) + 1:], ask(before + seen), call)
 
 
 class TradeTest(Refusals):

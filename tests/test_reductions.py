@@ -3,39 +3,8 @@
 import unittest
 from random import Random
 
-from tests.helper import (BILLION, FARTHEST, all_reductions, apply, ask, best_reduction, drop, floor, greatest, gross,
-                          isone, last, rounds_gain, take, told, trade)
-
-
-def small_house(random, members, count, top):
-    """Trades (key, giver, to, amount, least) with rooms up to top, by no order of keys."""
-    rows = []
-    for key in random.sample(range(1, 100), count):
-        giver, to = random.sample(range(1, members + 1), 2)
-        least = random.randint(0, 3)
-        rows.append((key, giver, to, least + random.randint(0 if least else 1, top), least))
-    return rows
-
-
-def big_house(random, members, count, low, high):
-    """Trades with amounts from low to high and a ring that names every member."""
-    rows = []
-    for place in range(count):
-        if place < members:
-            giver, to = place + 1, (place + 1) % members + 1
-        else:
-            giver, to = random.sample(range(1, members + 1), 2)
-        rows.append((place * 7919 + 1, giver, to, random.randint(low, high), 0))
-    return rows
-
-
-def entering(rows):
-    return [trade(*row) for row in rows]
-
-
-def roomy(rows):
-    """The trades (giver, to, room) by rising keys."""
-    return [(giver, to, amount - least) for key, giver, to, amount, least in sorted(rows)]
+from tests.helper import (BILLION, FARTHEST, all_reductions, apply, ask, best_reduction, big_house, drop, entering,
+                          floor, greatest, gross, isone, last, roomy, rounds_gain, small_house, take, told, trade)
 
 
 def told_numbers(rows):

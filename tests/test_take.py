@@ -3,8 +3,8 @@
 import unittest
 from random import Random
 
-from tests.helper import (BILLION, FARTHEST, all_reductions, apply, ask, best_reduction, drop, entered, floor, greatest,
-                          gross, isone, last, net, probe, take, told, trade)
+from tests.helper import (BILLION, FARTHEST, Refusals, all_reductions, apply, ask, best_reduction, drop, entered,
+                          floor, greatest, gross, isone, last, members, net, take, told, trade, trades)
 
 RING = [trade(30, 1, 2, 5, 1), trade(10, 2, 3, 7, 0), trade(20, 3, 1, 6, 2)]
 
@@ -24,6 +24,11 @@ def amounts(calls):
     keys = sorted(key for key, giver, to in entered(calls))
     answered = ask(calls + [drop(key) for key in keys])[len(calls):]
     return {key: answer[0] for key, answer in zip(keys, answered) if answer != [-4]}
+
+
+def told_trades(answer):
+    """What trades answers, by keys: (giver, to, amount, least)."""
+    return {answer[place]: tuple(answer[place + 1:place + 5]) for place in range(1, len(answer), 5)}
 
 
 def rooms(calls):
@@ -70,13 +75,7 @@ class TakeTest(unittest.TestCase):
                          [[12], [0], [0], [3], [3], [3, 2], [-4]])
 
 
-class ApplyTest(unittest.TestCase):
-    def refused(self, before, f, refusal):
-        seen = probe(entered(before))
-        answered = ask(before + [apply(f)] + seen)
-        self.assertEqual(answered[len(before)], [refusal], f)
-        self.assertEqual(answered[len(before) + 1:], ask(before + seen)[len(before):], f)
-
+class ApplyTest(Refusals):
     def test_answers_its_total_and_the_greatest_total_before(self):
         self.assertEqual(ask(RING + [apply([1, 1, 1]), gross(), greatest(), apply([3, 3, 3]), greatest()])[3:],
                          [[3, 12], [15, 12], [9], [9, 9], [0]])
@@ -102,25 +101,25 @@ class ApplyTest(unittest.TestCase):
 
     def test_too_few_or_too_many_numbers(self):
         for f in ([], [0], [0, 0], [1, 1], [0] * 4, [0] * 60):
-            self.refused(RING, f, -1)
-        self.refused([], [0], -1)
+            self.refused(RING, apply(f), -1)
+        self.refused([], apply([0]), -1)
 
     def test_numbers_out_of_range(self):
         for wrong in (-1, BILLION + 1, FARTHEST, -FARTHEST):
             for place in range(3):
                 f = [1, 1, 1]
                 f[place] = wrong
-                self.refused(RING, f, -1)
-        self.refused(RING, [-1, -1, -1], -1)
+                self.refused(RING, apply(f), -1)
+        self.refused(RING, apply([-1, -1, -1]), -1)
 
     def test_no_reduction(self):
         for f in ([5, 5, 5], [1, 1, 2], [2, 2, 1], [1, 0, 0], [0, 0, 1], [BILLION] * 3):
-            self.refused(RING, f, -6)
+            self.refused(RING, apply(f), -6)
 
     def test_of_several_refusals_the_one_told_first_is_answered(self):
-        self.refused(RING, [1, 1], -1)
-        self.refused(RING, [1, 0, -1], -1)
-        self.refused(RING, [1, 0, BILLION + 1], -1)
+        self.refused(RING, apply([1, 1]), -1)
+        self.refused(RING, apply([1, 0, -1]), -1)
+        self.refused(RING, apply([1, 0, BILLION + 1]), -1)
 
     def test_every_reduction_of_small_houses(self):
         random = Random(77)
@@ -173,3 +172,47 @@ class PromisesTest(unittest.TestCase):
             calls = house(random, random.randint(2, 4), random.randint(2, 5), 3)
             for numbers in list(all_reductions(rooms(calls)))[:10]:
                 self.kept(calls, apply(numbers))
+
+    def kept_as_it_is_told(self, calls, change):
+        """Promise 1 once more, as trades, members and net tell it ahead of the change and behind it."""
+        named = last(calls + [members()])[1:]
+        asked = [trades(), members()] + [net(member) for member in named]
+        answered = ask(calls + asked + [change] + asked)
+        before, behind = answered[len(calls):][:len(asked)], answered[-len(asked):]
+        self.assertEqual(before[2:], behind[2:], calls)
+        self.assertEqual(before[1][1:], named)
+        self.assertLessEqual(set(behind[1][1:]), set(named))
+        left = told_trades(behind[0])
+        for key, (giver, to, amount, least) in told_trades(before[0]).items():
+            if key in left:
+                self.assertEqual(left[key][:2] + left[key][3:], (giver, to, least))
+                self.assertTrue(max(1, least) <= left.pop(key)[2] <= amount)
+            else:
+                self.assertEqual(least, 0)
+        self.assertEqual(left, {})
+
+    def test_trades_members_and_net_tell_the_same_of_take(self):
+        random = Random(3)
+        for turn in range(100):
+            calls = house(random, random.randint(2, 12), random.randint(2, 40), random.choice([1, 3, 100, BILLION]))
+            self.kept_as_it_is_told(calls, take())
+            best, *behind = ask(calls + [take(), greatest(), told(), trades()])[-4:]
+            self.assertEqual(behind[0], [0])
+            self.assertFalse(any(behind[1][2::2]))
+            self.assertEqual(behind[1][1::2], behind[2][1::5])
+            taken = last(calls + [gross()])[0] - last(calls + [take(), gross()])[0]
+            self.assertEqual(best, [taken])
+
+    def test_trades_members_and_net_tell_the_same_of_apply(self):
+        random = Random(4)
+        for turn in range(60):
+            calls = house(random, random.randint(2, 12), random.randint(2, 40), random.choice([3, 100, BILLION]))
+            best = last(calls + [told()])[2::2]
+            self.kept_as_it_is_told(calls, apply(best))
+            self.kept_as_it_is_told(calls, apply([1] * len(best)))
+            self.assertEqual(ask(calls + [apply(best), trades(), members()])[-2:],
+                             ask(calls + [take(), trades(), members()])[-2:])
+        for turn in range(40):
+            calls = house(random, random.randint(2, 4), random.randint(2, 5), 3)
+            for numbers in list(all_reductions(rooms(calls)))[:10]:
+                self.kept_as_it_is_told(calls, apply(numbers))
